@@ -1,0 +1,1 @@
+"""Keptbythree: solution sets as canonical certificates."""

@@ -1,0 +1,84 @@
+"""Rows for a list of kinds, their combinations, and closed lists of rows."""
+
+from keptbythree.errors import BadRow
+from keptbythree.values import is_value
+
+
+def is_row(kinds, thing):
+    """Whether the thing, any value, is a row for the kinds."""
+    if not isinstance(thing, tuple) or len(thing) != len(kinds):
+        return False
+    return all([is_value(value, kind.size) for kind, value in zip(kinds, thing)])
+
+
+def combine(kinds, x, y, z):
+    """The combination of three rows."""
+    return _completed(_lines(kinds, x, y), z)
+
+
+def missing(kinds, rows):
+    """The first triple of the rows whose combination is not among them, or None if they are closed."""
+    ordered = _distinct(kinds, rows)
+    known = {row: True for row in ordered}
+    for x in ordered:
+        for y in ordered:
+            lines = _lines(kinds, x, y)
+            for z in ordered:
+                if _completed(lines, z) not in known:
+                    return x, y, z
+    return None
+
+
+def closure(kinds, rows):
+    """The rows of the least closed set that contains these, in ascending order."""
+    found = _distinct(kinds, rows)
+    known = {row: True for row in found}
+    most = _number_of_rows(kinds)
+    # Each triple is combined once: in the round of the last found of its rows.
+    rounds = 0
+    while rounds < len(found) < most:
+        rounds += 1
+        made = _combinations_with_last(kinds, found[:rounds])
+        for row in made:
+            if row not in known:
+                known[row] = True
+                found.append(row)
+    return sorted(found)
+
+
+def _distinct(kinds, rows):
+    """The rows in ascending order, without duplicates."""
+    for row in rows:
+        if not is_row(kinds, row):
+            raise BadRow(row)
+    return sorted(set(rows))
+
+
+def _number_of_rows(kinds):
+    """How many rows there are for the kinds."""
+    number = 1
+    for kind in kinds:
+        number *= kind.size
+    return number
+
+
+def _lines(kinds, x, y):
+    """What x and y leave to the third row: for each place the values of m, by the value of that row."""
+    return [kind.table[first][second] for kind, first, second in zip(kinds, x, y)]
+
+
+def _completed(lines, z):
+    """The combination of the two rows of these lines with z."""
+    return tuple([line[value] for line, value in zip(lines, z)])
+
+
+def _combinations_with_last(kinds, rows):
+    """The combinations of those triples of the rows in which the last row occurs."""
+    last = rows[-1]
+    made = []
+    for x in rows:
+        for y in rows:
+            lines = _lines(kinds, x, y)
+            thirds = rows if last in (x, y) else [last]
+            made.extend([_completed(lines, z) for z in thirds])
+    return made

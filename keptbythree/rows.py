@@ -1,6 +1,6 @@
 """Rows for a list of kinds, their combinations, and closed lists of rows."""
 
-from keptbythree.errors import BadRow
+from keptbythree.errors import BadRow, NotClosed
 from keptbythree.values import is_value
 
 
@@ -27,6 +27,14 @@ def missing(kinds, rows):
                 if _completed(lines, z) not in known:
                     return x, y, z
     return None
+
+
+def check_closed(kinds, rows):
+    """Raises an error if an element of the list is not a row, or if the rows are not closed."""
+    triple = missing(kinds, rows)
+    if triple is not None:
+        x, y, z = triple
+        raise NotClosed(x, y, z)
 
 
 def closure(kinds, rows):

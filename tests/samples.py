@@ -1,5 +1,6 @@
 """Kinds, wrong values and slow but plain reference functions that several tests use."""
 
+import sys
 from itertools import product
 
 from keptbythree.kinds import Kind
@@ -7,6 +8,10 @@ from keptbythree.kinds import Kind
 BIT = Kind.cyclic(2)
 LATCH = Kind.free(2, [0, 1])
 ONE = Kind.cyclic(1)
+THREE = Kind.cyclic(3)
+FOUR = Kind.cyclic(4)
+# The sum of two bits without carry: a group of size 4 that is not cyclic.
+NIM = Kind(tuple(tuple(tuple(x ^ y ^ z for z in range(4)) for y in range(4)) for x in range(4)))
 HUGE = 10 ** 40 - 1
 
 
@@ -63,3 +68,94 @@ def plain_closure(kinds, rows):
 
 def all_rows(kinds):
     return list(product(*[range(kind.size) for kind in kinds]))
+
+
+def plain_classes(rows, place):
+    """The classes of a place as [7] says it, as ascending lists in the order of their least values."""
+    near = {(t[place], u[place]) for t in rows for u in rows if t[:place] == u[:place]}
+    values = sorted({row[place] for row in rows})
+    classes = []
+    for value in values:
+        group = [other for other in values if (value, other) in near]
+        if group not in classes:
+            classes.append(group)
+    return classes
+
+
+def plain_certificate(rows, width):
+    """The certificate of a closed list of rows as [9] says it."""
+    if not rows:
+        return None
+    return [[plain_class(rows, place, values) for values in plain_classes(rows, place)] for place in range(width)]
+
+
+def plain_class(rows, place, values):
+    """One class of the certificate."""
+    first = min(row for row in rows if row[place] == values[0])
+    rest = [(value, min(row for row in rows if row[:place] == first[:place] and row[place] == value))
+            for value in values[1:]]
+    return [(values[0], first), *rest]
+
+
+def plain_walk(kinds, rows, goal):
+    """The walk to a row as [10] says it, with the certificate of the rows."""
+    y = min(rows)
+    steps = []
+    for place, entry in enumerate(plain_certificate(rows, len(kinds))):
+        if y[place] != goal[place]:
+            for line in entry:
+                if y[place] in dict(line):
+                    group = dict(line)
+            if goal[place] not in group:
+                return steps, place, y
+            y = plain_combination(kinds, y, group[y[place]], group[goal[place]])
+            steps.append((place, goal[place]))
+    return steps, None, y
+
+
+def taken(rows, order):
+    """The rows with their places in another order, or some of their places, ascending."""
+    return sorted(tuple(row[place] for place in order) for row in rows)
+
+
+def small_sets():
+    """Pairs (kinds, rows) of small closed sets of all sorts; the rows ascend."""
+    latches = [Kind.free(2, entries) for entries in product((0, 1), repeat=2)]
+    for kinds in product(latches, repeat=2):
+        for chosen in product((False, True), repeat=4):
+            rows = [row for row, is_chosen in zip(all_rows(kinds), chosen) if is_chosen]
+            if plain_missing(kinds, rows) is None:
+                yield list(kinds), rows
+    source = numbers(11)
+    for kinds in SMALL_KINDS:
+        for many in range(5):
+            given = [tuple(next(source) % kind.size for kind in kinds) for _ in range(many)]
+            yield kinds, plain_closure(kinds, given)
+    yield [BIT, BIT, NIM], [(0, 0, 0), (0, 1, 1), (1, 0, 2), (1, 1, 3)]
+    yield [NIM, BIT, BIT], [(0, 0, 0), (1, 0, 1), (2, 1, 0), (3, 1, 1)]
+    yield [BIT] * 4, [row for row in all_rows([BIT] * 4) if sum(row) % 2 == 1]
+
+
+SMALL_KINDS = [
+    [], [ONE], [ONE, ONE], [FOUR], [odd_kind(4, 2)], [odd_kind(3, 7)], [BIT, THREE], [odd_kind(3, 5), LATCH],
+    [LATCH, ONE, BIT], [odd_kind(3, 8), odd_kind(3, 9)], [FOUR, odd_kind(3, 4)], [FOUR, FOUR], [NIM, NIM],
+    [BIT, LATCH, THREE], [BIT, BIT, BIT], [LATCH, LATCH, LATCH], [THREE, THREE, THREE], [ONE, FOUR, BIT, ONE],
+    [BIT, BIT, BIT, BIT], [LATCH, BIT, BIT, LATCH], [FOUR, BIT, FOUR], [odd_kind(2, 1), THREE, odd_kind(2, 1)],
+]
+
+
+def calls_of(function):
+    """What the function returns, and how many calls of Python functions it takes."""
+    counted = [0]
+
+    def count(frame, event, argument):
+        if event == "call":
+            counted[0] += 1
+
+    before = sys.getprofile()
+    sys.setprofile(count)
+    try:
+        result = function()
+    finally:
+        sys.setprofile(before)
+    return result, counted[0]

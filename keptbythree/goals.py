@@ -1,104 +1,81 @@
 """Goals: the rows of a set with wanted values at some of its places, found without a list of the rows."""
 
-from keptbythree.entries import combined, groups
-
-
-def values_at(row, places):
-    """The values of the row at the places."""
-    return tuple([row[place] for place in places])
-
-
-def changes(entries, places):
-    """For each place of the set, the pairs of different values at the given places that rows of one group have."""
-    return [_pairs(entry, places) for entry in entries]
-
-
-def _pairs(entry, places):
-    """The pairs of one entry, without duplicates."""
-    pairs = {}
-    for group in groups(entry):
-        marks = [values_at(group[value], places) for value in group]
-        for x in marks:
-            for y in marks:
-                if x != y:
-                    pairs[x, y] = True
-    return list(pairs)
-
-
-def levels(tables, changed, targets):
-    """For each place the values that a row may have so that one that agrees with it before the place has a target.
-
-    Behind the last place these are the targets alone. The tables are those of the given places. A row y and two rows
-    t, u of a group at or behind a place give the combination of y, t and u, which agrees with y before this place.
-    By walks, such combinations lead to all rows that agree with y, so the values that they lead to are all that occur.
-    They lead back, too: therefore it is enough to begin with the targets.
-    """
-    known = {}
-    made = [{marks: True for marks in targets}]
-    for pairs in reversed(changed):
-        more = [pair for pair in pairs if pair not in known]
-        if more:
-            for pair in more:
-                known[pair] = True
-            made.append(_spread(tables, made[-1], list(known)))
-        else:
-            made.append(made[-1])
-    made.reverse()
-    return made
-
-
-def _spread(tables, begin, pairs):
-    """All values to which combinations with the pairs lead, step by step, from those of the beginning."""
-    found = {marks: True for marks in begin}
-    todo = list(begin)
-    while todo:
-        marks = todo.pop()
-        for first, second in pairs:
-            made = combined(tables, marks, first, second)
-            if made not in found:
-                found[made] = True
-                todo.append(made)
-    return found
+from keptbythree.entries import base
+from keptbythree.marks import BITS, marks_of, origins
 
 
 class Goal:
-    """The rows with values of the last level at the places. The rows passed are of the set and can still lead there."""
+    """The rows of a set whose values at one to three places form one of the wanted rows, which are closed.
 
-    def __init__(self, tables, entries, places, reach):
-        self._tables = tables
+    The set is given by the columns of its kinds and by entries with any rows.
+    """
+
+    def __init__(self, columns, entries, places, wanted):
+        self._columns = columns
         self._entries = entries
         self._places = places
-        self._reach = reach
-        self._tables_at = values_at(tables, places)
+        self._shifts = [(place, BITS * turn) for turn, place in enumerate(places)]
+        self._wanted = marks_of(wanted)
+        self._marks = [{value: self.mark(entry[value][value]) for value in entry} for entry in entries]
 
-    def near(self, row, place, value):
-        """The row moved to the value at the place, or None if it cannot lead to the goal from there on."""
-        group = self._entries[place][row[place]]
-        trio = (row, group[row[place]], group[value])
-        first, second, third = [values_at(one, self._places) for one in trio]
-        if combined(self._tables_at, first, second, third) not in self._reach[place + 1]:
-            return None
-        return combined(self._tables, row, group[row[place]], group[value])
+    def mark(self, row):
+        """The mark of the row."""
+        mark = 0
+        for place, shift in self._shifts:
+            mark |= row[place] << shift
+        return mark
 
-    def steered(self, row, place):
-        """The least row of the goal that agrees with the row before the place."""
-        for at in range(place, len(self._entries)):
-            row = self._steered_at(row, at)
-        return row
+    def has_all(self):
+        """Whether all rows of the set are in the goal. They are if those of the entries are, since it is closed."""
+        return all([self._has_marks(marks, marks) for marks in self._marks])
 
-    def _steered_at(self, row, place):
-        """The row moved to the least value at the place from which it can lead to the goal."""
-        for value in self._entries[place][row[place]]:
-            made = self.near(row, place, value)
-            if made is not None:
-                return made
-        return None
+    def has_any(self, levels):
+        """Whether some row of the set is in the goal, which has these levels."""
+        return levels[0] >> self.mark(base(self._entries)) & 1 == 1
 
-    def group(self, row, place):
-        """The group of the place to which a row of the goal belongs, within the goal."""
-        made = {}
-        for value in self._entries[place][row[place]]:
-            near = self.near(row, place, value)
-            if near is not None:
-                made[value] = self.steered(near, place + 1)
-        return made
+    def has_group(self, place, group):
+        """Whether the rows of a group of the entries are in the goal."""
+        return self._has_marks(self._marks[place], group)
+
+    def _has_marks(self, marks, values):
+        for value in values:
+            if not self._wanted >> marks[value] & 1:
+                return False
+        return True
+
+    def levels(self):
+        """For each place, and behind the last one, the marks of those rows that agree before it with one of the goal.
+
+        The marks of rows that are not in the set do not matter; they may be there or not.
+        """
+        levels = [self._wanted]
+        for place in range(len(self._entries) - 1, -1, -1):
+            levels.append(self._level(place, levels[-1]))
+        levels.reverse()
+        return levels
+
+    def _level(self, place, marks):
+        """The level of the place, where these marks are that of the next place.
+
+        Let y be a row that agrees before the place with a row z of the goal. Moved to the value of z at the place, it
+        agrees with z there, too, and has one of these marks. Let now any move of the entry turn the mark of a row y of
+        the set into one of these. The rows of the move agree before the place, so what it makes of y does so with y.
+        """
+        found = self._marks[place]
+        entry = self._entries[place]
+        pairs = [(entry[value][min(entry[value])], entry[value][value]) for value in entry
+                 if found[value] != found[min(entry[value])]]
+        near = marks
+        for first, other in pairs:
+            near |= self._origins(marks, first, other)
+        level = near
+        for first, other in pairs:
+            level |= self._origins(near, other, first)
+        return level
+
+    def _origins(self, marks, old, new):
+        """The marks that the combination with the rows old and new turns into one of these."""
+        for turn, place in enumerate(self._places):
+            if old[place] != new[place]:
+                marks = origins(marks, turn, self._columns[place][old[place]][new[place]])
+        return marks

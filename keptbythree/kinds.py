@@ -17,6 +17,7 @@ class Kind:
                 if table[x][y][y] != x or table[y][y][x] != x:
                     raise BadKind(x, y)
         self._table = table
+        self._columns = _columns(table)
 
     @classmethod
     def cyclic(cls, size):
@@ -65,6 +66,12 @@ def _is_cube(thing, size, depth):
     if not isinstance(thing, tuple) or len(thing) != size:
         return False
     return all([_is_cube(part, size, depth - 1) for part in thing])
+
+
+def _columns(table):
+    """The values of m(x, y, z) by x, at columns[y][z]."""
+    size = len(table)
+    return tuple([tuple([tuple([plane[y][z] for plane in table]) for z in range(size)]) for y in range(size)])
 
 
 def _check_size(size):

@@ -2,8 +2,8 @@
 
 from keptbythree.entries import ascending, entry_of, groups, moved
 from keptbythree.errors import BadOrder
-from keptbythree.goals import values_at
-from keptbythree.least import canonical
+from keptbythree.frames import frame_of, values_at
+from keptbythree.least import settled
 from keptbythree.sets import ClosedSet
 from keptbythree.values import is_value
 
@@ -13,10 +13,9 @@ def reordered(closed, order):
     if not _is_order(order, closed.width):
         raise BadOrder()
     kinds = values_at(closed.kinds, order)
-    if closed._entries is None:
+    if closed.is_empty:
         return ClosedSet(kinds, None)
-    entries = _arranged(closed._tables, closed._entries, order)
-    return ClosedSet(kinds, canonical([kind.table for kind in kinds], entries))
+    return ClosedSet(kinds, settled(arranged(closed._tables, closed._columns, closed._entries, order, len(order))))
 
 
 def _is_order(thing, width):
@@ -26,71 +25,121 @@ def _is_order(thing, width):
     return all([is_value(place, width) for place in thing]) and sorted(thing) == list(range(width))
 
 
-def _arranged(tables, entries, order):
-    """The entries for the order, with any rows, by exchanges of neighbours."""
-    tables = list(tables)
-    now = list(range(len(order)))
-    for place in range(len(order)):
-        at = now.index(order[place])
-        while at > place:
-            at -= 1
-            entries = _swapped(tables, entries, at)
-            tables[at], tables[at + 1] = tables[at + 1], tables[at]
-            now[at], now[at + 1] = now[at + 1], now[at]
-    return entries
+def arranged(tables, columns, entries, order, width):
+    """The frame of the values at the first places of the order, as many as the width, of the set with these entries."""
+    found = Arranging(tables, entries).entries_for(order)
+    places = order[:width]
+    made = [_cut_entry(found[place], places) for place in places]
+    return frame_of(values_at(tables, places), values_at(columns, places), made)
 
 
-def _swapped(tables, entries, at):
-    """The entries after the exchange of a place with the next one; only the classes of these two may change."""
-    made = list(entries)
-    made[at] = _entry_before(tables, entries, at)
-    made[at + 1] = _entry_behind(tables, entries, at)
-    return [entry_of([_exchanged(group, at) for group in groups(entry)]) for entry in made]
+def _cut_entry(entry, places):
+    """The entry with the values at these places alone in its rows."""
+    return entry_of([{value: values_at(group[value], places) for value in group} for group in groups(entry)])
 
 
-def _exchanged(group, at):
-    """The group with the values of a place and of the next one exchanged in its rows."""
-    return {value: _exchanged_row(group[value], at) for value in group}
+def _is_spread(group, place):
+    """Whether the rows of the group have several values at the place."""
+    return len({group[value][place] for value in group}) > 1
 
 
-def _exchanged_row(row, at):
-    return row[:at] + (row[at + 1], row[at]) + row[at + 2:]
+class Arranging:
+    """The entries of a set while its places are brought into another order, by exchanges of neighbours.
 
+    The rows keep the values at their places all the time. The entries belong to the order that was reached: the rows of
+    a group agree at the places that stand before its own one.
+    """
 
-def _entry_before(tables, entries, at):
-    """The entry of the later of two places if it stands before the other one."""
-    entry = {}
-    for value in entries[at + 1]:
-        if value not in entry:
-            entry.update(entry_of([_group_before(tables, entries, entries[at + 1][value][value], at)]))
-    return entry
+    def __init__(self, tables, entries):
+        self._tables = tables
+        self._entries = list(entries)
+        self._groups = [groups(entry) for entry in entries]
 
+    def entries_for(self, order):
+        """The entries, by the places, for the order."""
+        now = list(range(len(order)))
+        for turn in range(len(order)):
+            at = now.index(order[turn])
+            while at > turn:
+                at -= 1
+                self._exchange(now[at], now[at + 1])
+                now[at], now[at + 1] = now[at + 1], now[at]
+        return self._entries
 
-def _group_before(tables, entries, row, at):
-    """The values behind the place in the rows that agree with the row before it, with such rows."""
-    group = {}
-    for first in entries[at][row[at]]:
-        near = moved(tables, entries, row, at, first)
-        for second in entries[at + 1][near[at + 1]]:
-            if second not in group:
-                group[second] = moved(tables, entries, near, at + 1, second)
-    return ascending(group)
+    def _exchange(self, place, other):
+        """Exchanges two neighbours. Only the entries of these two may change."""
+        made = self._groups[place]
+        if any([_is_spread(group, other) for group in made]):
+            if self._is_free(place, other):
+                self._keep(place, [self._levelled(group, other) for group in made])
+            else:
+                before = self._groups_before(place, other)
+                self._keep(place, self._groups_behind(place, other))
+                self._keep(other, before)
 
+    def _keep(self, place, made):
+        self._groups[place] = made
+        self._entries[place] = entry_of(made)
 
-def _entry_behind(tables, entries, at):
-    """The entry of the earlier of two places if it stands behind the other one."""
-    entry = {}
-    for value in entries[at]:
-        if value not in entry:
-            entry.update(entry_of([_group_behind(tables, entries, entries[at][value][value], at)]))
-    return entry
+    def _is_free(self, place, other):
+        """Whether the classes of the other place stay if rows need not agree at the place before.
 
+        So it is if the rows of each group of the place have values of one class at the other one. Then the rows of the
+        group can be moved there to one value, and its class stays, too.
+        """
+        entry = self._entries[other]
+        for group in self._groups[place]:
+            near = entry[group[min(group)][other]]
+            for value in group:
+                if group[value][other] not in near:
+                    return False
+        return True
 
-def _group_behind(tables, entries, row, at):
-    """The values at the place in the rows that agree with the row before and behind it, with such rows."""
-    group = {}
-    for first in entries[at][row[at]]:
-        near = moved(tables, entries, row, at, first)
-        if row[at + 1] in entries[at + 1][near[at + 1]]:
-            group[first] = moved(tables, entries, near, at + 1, row[at + 1])
-    return group
+    def _levelled(self, group, other):
+        """The group with its rows moved to one value at the other place, which is of one class for all."""
+        wanted = group[min(group)][other]
+        return {value: self._moved(group[value], other, wanted) for value in group}
+
+    def _moved(self, row, place, value):
+        return moved(self._tables, self._entries, row, place, value)
+
+    def _groups_before(self, place, other):
+        """The groups of the other place if it stands before the place."""
+        known = {}
+        made = []
+        for value in self._entries[other]:
+            if value not in known:
+                group = self._group_before(self._entries[other][value][value], place, other)
+                known.update(group)
+                made.append(group)
+        return made
+
+    def _group_before(self, row, place, other):
+        """The values at the other place in the rows that agree with the row before both places."""
+        group = {}
+        for first in self._entries[place][row[place]]:
+            near = self._moved(row, place, first)
+            if near[other] not in group:
+                for second in self._entries[other][near[other]]:
+                    group[second] = self._moved(near, other, second)
+        return ascending(group)
+
+    def _groups_behind(self, place, other):
+        """The groups of the place if it stands behind the other one."""
+        known = {}
+        made = []
+        for value in self._entries[place]:
+            if value not in known:
+                group = self._group_behind(self._entries[place][value][value], place, other)
+                known.update(group)
+                made.append(group)
+        return made
+
+    def _group_behind(self, row, place, other):
+        """The values at the place in the rows that agree with the row before both places and at the other one."""
+        group = {}
+        for first in self._entries[place][row[place]]:
+            near = self._moved(row, place, first)
+            if row[other] in self._entries[other][near[other]]:
+                group[first] = self._moved(near, other, row[other])
+        return group

@@ -1,8 +1,10 @@
 """The rows of a set that have certain values at certain places."""
 
 from keptbythree.errors import BadPlace, BadRow, KindsDiffer
-from keptbythree.goals import values_at
-from keptbythree.narrow import narrowed
+from keptbythree.frames import values_at
+from keptbythree.goals import Goal
+from keptbythree.least import settled
+from keptbythree.narrow import Narrowing
 from keptbythree.rows import check_closed
 from keptbythree.sets import ClosedSet
 from keptbythree.values import is_value
@@ -21,6 +23,8 @@ def fixed(closed, place, value):
     _check_place(closed, place)
     if not is_value(value, closed.kinds[place].size):
         raise BadRow((value,))
+    if closed.is_empty or value not in closed._entries[place]:
+        return ClosedSet(closed.kinds, None)
     return _narrowed_set(closed, (place,), [(value,)])
 
 
@@ -40,6 +44,12 @@ def _check_place(closed, place):
 
 def _narrowed_set(closed, places, rows):
     """The rows of the set whose values at the places form one of the rows, which are closed."""
-    if closed._entries is None:
+    if closed.is_empty:
         return closed
-    return ClosedSet(closed.kinds, narrowed(closed._tables, closed._entries, places, rows))
+    goal = Goal(closed._columns, closed._entries, places, rows)
+    if goal.has_all():
+        return closed
+    levels = goal.levels()
+    if not goal.has_any(levels):
+        return ClosedSet(closed.kinds, None)
+    return ClosedSet(closed.kinds, settled(Narrowing(closed._frame(), goal, levels).frame()))

@@ -3,6 +3,7 @@
 from keptbythree.entries import (above, base, below, certificate_of, entries_of_all, entries_of_rows, groups, highest,
                                  walked)
 from keptbythree.errors import BadPlace, BadRow, EmptySet
+from keptbythree.frames import frame_of
 from keptbythree.rows import check_closed, is_row
 from keptbythree.values import is_value
 
@@ -16,7 +17,9 @@ class ClosedSet:
     def __init__(self, kinds, entries):
         self._kinds = tuple(kinds)
         self._tables = tuple([kind.table for kind in kinds])
+        self._columns = tuple([kind._columns for kind in kinds])
         self._entries = entries
+        self._known_frame = None
 
     @classmethod
     def full(cls, *kinds):
@@ -135,6 +138,13 @@ class ClosedSet:
             found.append(row)
             row = above(self._tables, self._entries, row, row, len(row))
         return found
+
+    def _frame(self):
+        """The frame of the set, which is not empty."""
+        # The set never changes, and its frame is needed again for each set that is made from it.
+        if self._known_frame is None:
+            self._known_frame = frame_of(self._tables, self._columns, self._entries)
+        return self._known_frame
 
     def _check_row(self, row):
         if not is_row(self._kinds, row):

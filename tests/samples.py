@@ -113,6 +113,43 @@ def plain_walk(kinds, rows, goal):
     return steps, None, y
 
 
+def listed_certificate(rows, width):
+    """The certificate of a closed list of ascending rows as [9] says it, for lists that are too long for the above."""
+    return [listed_entry(rows, place) for place in range(width)] if rows else None
+
+
+def listed_entry(rows, place):
+    """One entry of the certificate."""
+    first, after = {}, {}
+    for row in rows:
+        first.setdefault(row[place], row)
+        after.setdefault(row[:place], {}).setdefault(row[place], row)
+    # Two values are near if they follow one beginning; [8] says that the values of a class follow the same beginnings.
+    groups = sorted({tuple(sorted(found)) for found in after.values()})
+    assert sum(len(group) for group in groups) == len(first)
+    return [[(value, after[first[group[0]][:place]][value]) for value in group] for group in groups]
+
+
+def random_rules(kinds, many, seed):
+    """Closed lists of rows for one to three places each. Some row satisfies all of them."""
+    source = numbers(seed)
+    base = [next(source) % kind.size for kind in kinds]
+    rules = []
+    while len(rules) < many:
+        places = [next(source) % len(kinds) for _ in range(1 + next(source) % 3)]
+        chosen = [kinds[place] for place in places]
+        begin = [tuple(base[place] for place in places)]
+        begin.extend([tuple(next(source) % kind.size for kind in chosen) for _ in range(next(source) % 3)])
+        rules.append((places, plain_closure(chosen, begin)))
+    return rules
+
+
+def shuffled(many, seed):
+    """The integers below a number in an order without a pattern."""
+    source = numbers(seed)
+    return sorted(range(many), key=lambda _: next(source))
+
+
 def taken(rows, order):
     """The rows with their places in another order, or some of their places, ascending."""
     return sorted(tuple(row[place] for place in order) for row in rows)

@@ -7,7 +7,7 @@ the old value. Most rows t and u of an entry differ at few places, so that a mov
 Columns are those of the kinds: columns[y][z] has the values m(x, y, z) by x.
 """
 
-from keptbythree.entries import groups
+from keptbythree.entries import entry_of, groups
 
 
 class Frame:
@@ -65,3 +65,17 @@ def frame_of(tables, columns, entries):
 def values_at(row, places):
     """The values of the row at the places."""
     return tuple([row[place] for place in places])
+
+
+def cut(tables, columns, entries, places):
+    """The frame of the values at these places alone, in this order, where the entries belong to such an order.
+
+    Places may be left out that stand behind all others, or that follow from those before them.
+    """
+    made = [_cut_entry(entries[place], places) for place in places]
+    return frame_of(values_at(tables, places), values_at(columns, places), made)
+
+
+def _cut_entry(entry, places):
+    """The entry with the values at these places alone in its rows."""
+    return entry_of([{value: values_at(group[value], places) for value in group} for group in groups(entry)])

@@ -2,7 +2,7 @@
 
 from keptbythree.entries import ascending, entry_of, groups, moved
 from keptbythree.errors import BadOrder
-from keptbythree.frames import frame_of, values_at
+from keptbythree.frames import cut, values_at
 from keptbythree.least import settled
 from keptbythree.sets import ClosedSet
 from keptbythree.values import is_value
@@ -12,10 +12,17 @@ def reordered(closed, order):
     """The set whose rows have at place i the value of place order[i]."""
     if not _is_order(order, closed.width):
         raise BadOrder()
-    kinds = values_at(closed.kinds, order)
+    return taken(closed, order)
+
+
+def taken(closed, places):
+    """The set of the values at these different places, in this order."""
+    kinds = values_at(closed.kinds, places)
     if closed.is_empty:
         return ClosedSet(kinds, None)
-    return ClosedSet(kinds, settled(arranged(closed._tables, closed._columns, closed._entries, order, len(order))))
+    order = [*places, *[place for place in range(closed.width) if place not in places]]
+    entries = Arranging(closed._tables, closed._entries).entries_for(order)
+    return ClosedSet(kinds, settled(cut(closed._tables, closed._columns, entries, places)))
 
 
 def _is_order(thing, width):
@@ -23,19 +30,6 @@ def _is_order(thing, width):
     if not isinstance(thing, (list, tuple)) or len(thing) != width:
         return False
     return all([is_value(place, width) for place in thing]) and sorted(thing) == list(range(width))
-
-
-def arranged(tables, columns, entries, order, width):
-    """The frame of the values at the first places of the order, as many as the width, of the set with these entries."""
-    found = Arranging(tables, entries).entries_for(order)
-    places = order[:width]
-    made = [_cut_entry(found[place], places) for place in places]
-    return frame_of(values_at(tables, places), values_at(columns, places), made)
-
-
-def _cut_entry(entry, places):
-    """The entry with the values at these places alone in its rows."""
-    return entry_of([{value: values_at(group[value], places) for value in group} for group in groups(entry)])
 
 
 def _is_spread(group, place):

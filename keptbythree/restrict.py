@@ -1,6 +1,7 @@
 """The rows of a set that have certain values at certain places."""
 
-from keptbythree.errors import BadPlace, BadRow, KindsDiffer
+from keptbythree.checks import check_place
+from keptbythree.errors import BadRow, KindsDiffer
 from keptbythree.frames import values_at
 from keptbythree.goals import Goal
 from keptbythree.least import settled
@@ -13,14 +14,14 @@ from keptbythree.values import is_value
 def restricted(closed, places, rows):
     """The rows of the set whose values at the places form one of the rows."""
     for place in places:
-        _check_place(closed, place)
+        check_place(closed, place)
     check_closed(values_at(closed.kinds, places), rows)
     return _narrowed_set(closed, places, rows)
 
 
 def fixed(closed, place, value):
     """The rows of the set with this value at the place."""
-    _check_place(closed, place)
+    check_place(closed, place)
     if not is_value(value, closed.kinds[place].size):
         raise BadRow((value,))
     if closed.is_empty or value not in closed._entries[place]:
@@ -30,16 +31,11 @@ def fixed(closed, place, value):
 
 def equated(closed, place, other):
     """The rows of the set with equal values at the two places."""
-    _check_place(closed, place)
-    _check_place(closed, other)
+    check_place(closed, place)
+    check_place(closed, other)
     if closed.kinds[place] != closed.kinds[other]:
         raise KindsDiffer(place, other)
     return _narrowed_set(closed, (place, other), [(value, value) for value in range(closed.kinds[place].size)])
-
-
-def _check_place(closed, place):
-    if not is_value(place, closed.width):
-        raise BadPlace(place)
 
 
 def _narrowed_set(closed, places, rows):

@@ -4,6 +4,8 @@ import sys
 from itertools import product
 
 from keptbythree.kinds import Kind
+from keptbythree.restrict import restricted
+from keptbythree.rows import closure
 
 BIT = Kind.cyclic(2)
 LATCH = Kind.free(2, [0, 1])
@@ -13,6 +15,12 @@ FOUR = Kind.cyclic(4)
 # The sum of two bits without carry: a group of size 4 that is not cyclic.
 NIM = Kind(tuple(tuple(tuple(x ^ y ^ z for z in range(4)) for y in range(4)) for x in range(4)))
 HUGE = 10 ** 40 - 1
+
+
+def wrong_places(width):
+    """Any values but the places."""
+    right = [str(place) for place in range(width)]
+    return [thing for thing in [*any_values(), width, -1, -width, HUGE] if repr(thing) not in right]
 
 
 def nested(depth, thing):
@@ -140,8 +148,19 @@ def random_rules(kinds, many, seed):
         chosen = [kinds[place] for place in places]
         begin = [tuple(base[place] for place in places)]
         begin.extend([tuple(next(source) % kind.size for kind in chosen) for _ in range(next(source) % 3)])
-        rules.append((places, plain_closure(chosen, begin)))
+        rules.append((places, closure(chosen, begin)))
     return rules
+
+
+def ruled(closed, rules):
+    """The rows of the set that satisfy the rules."""
+    for places, rows in rules:
+        closed = restricted(closed, places, rows)
+    return closed
+
+
+def allowed_by(rules, row):
+    return all(tuple(row[place] for place in places) in rows for places, rows in rules)
 
 
 def shuffled(many, seed):
@@ -150,9 +169,40 @@ def shuffled(many, seed):
     return sorted(range(many), key=lambda _: next(source))
 
 
+def certificate_rows(closed):
+    """The rows of a certificate, in the order in which it is written."""
+    return [row for entry in closed.certificate() for group in entry for _, row in group]
+
+
+def plain_derives(kinds, rows, steps, row):
+    """What `derives` says, in the words of the document."""
+    if type(rows) is not list or type(steps) is not list or rows == []:
+        return False
+    made = list(rows)
+    for step in steps:
+        if type(step) is not tuple or len(step) != 3 or any(type(index) is not int for index in step):
+            return False
+        if not all(0 <= index < len(made) for index in step) or not all(plain_row(kinds, one) for one in made):
+            return False
+        made.append(plain_combination(kinds, *[made[index] for index in step]))
+    return all(plain_row(kinds, one) for one in [*made, row]) and made[-1] == row
+
+
+def plain_row(kinds, thing):
+    return (type(thing) is tuple and len(thing) == len(kinds)
+            and all(type(value) is int and 0 <= value < kind.size for value, kind in zip(thing, kinds)))
+
+
+def plain_joined(rows, others, pairs):
+    """The rows of a join, ascending."""
+    left = [place for _, place in pairs]
+    return sorted({x + tuple(value for place, value in enumerate(y) if place not in left)
+                   for x in rows for y in others if all(x[place] == y[other] for place, other in pairs)})
+
+
 def taken(rows, order):
     """The rows with their places in another order, or some of their places, ascending."""
-    return sorted(tuple(row[place] for place in order) for row in rows)
+    return sorted({tuple(row[place] for place in order) for row in rows})
 
 
 def small_sets():

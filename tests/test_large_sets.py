@@ -7,7 +7,8 @@ from keptbythree.orders import reordered
 from keptbythree.restrict import equated, fixed, restricted
 from keptbythree.rows import combine
 from keptbythree.sets import ClosedSet
-from samples import BIT, FOUR, LATCH, NIM, ONE, THREE, all_rows, calls_of, numbers, odd_kind, plain_closure
+from samples import (BIT, FOUR, LATCH, NIM, ONE, THREE, all_rows, allowed_by, calls_of, numbers, odd_kind,
+                     plain_closure, ruled)
 
 ODD = odd_kind(4, 1)
 # More calls than any operation needs for twelve places; a listing of the rows would take more than that.
@@ -19,16 +20,6 @@ EVEN = [row for row in all_rows([FOUR] * 3) if sum(row) % 2 == 0]
 RULES = [([0, 5, 9], SUM), ([11, 3, 0], SUM), ([2, 6, 7], EVEN), ([4, 8], [(0, 1), (1, 2), (2, 3), (3, 0)]),
          ([10, 1, 6], SUM), ([7], [(1,), (3,)]), ([2, 2], [(0, 0), (2, 2)])]
 LEFT = 4 ** 12 // (4 * 4 * 2 * 4 * 4 * 2 * 2)
-
-
-def allowed_by(rules, row):
-    return all(tuple(row[place] for place in places) in rows for places, rows in rules)
-
-
-def ruled(closed, rules):
-    for places, rows in rules:
-        closed = restricted(closed, places, rows)
-    return closed
 
 
 def number_of_rows(closed):

@@ -5,8 +5,8 @@ import unittest
 from keptbythree.orders import reordered
 from keptbythree.restrict import equated, fixed, restricted
 from keptbythree.sets import ClosedSet
-from samples import (BIT, FOUR, LATCH, NIM, ONE, THREE, all_rows, calls_of, listed_certificate, numbers, odd_kind,
-                     plain_closure, random_rules, shuffled, taken)
+from samples import (BIT, FOUR, LATCH, NIM, ONE, THREE, all_rows, allowed_by, calls_of, listed_certificate, numbers,
+                     odd_kind, random_rules, ruled, shuffled, taken)
 
 ODD = odd_kind(4, 1)
 POOLS = [[FOUR], [ODD], [NIM, FOUR], [BIT, THREE], [LATCH, odd_kind(3, 6), FOUR], [NIM, BIT, THREE, odd_kind(4, 9)],
@@ -15,16 +15,6 @@ POOLS = [[FOUR], [ODD], [NIM, FOUR], [BIT, THREE], [LATCH, odd_kind(3, 6), FOUR]
 SHORT = [[BIT] * 12, [LATCH] * 12, [ONE, THREE] * 6, [BIT, ONE, odd_kind(3, 6), LATCH] * 3,
          [FOUR, ONE, ONE, NIM, ODD, ONE, ONE, ODD, FOUR, ONE, ONE, NIM], [odd_kind(3, 2), ONE, ONE, BIT] * 3,
          [odd_kind(2, 4), BIT] * 6]
-
-
-def ruled(closed, rules):
-    for places, rows in rules:
-        closed = restricted(closed, places, rows)
-    return closed
-
-
-def allowed_by(rules, row):
-    return all(tuple(row[place] for place in places) in rows for places, rows in rules)
 
 
 def same_kinds(kinds, place):

@@ -9,18 +9,12 @@ from keptbythree.kinds import Kind
 from keptbythree.restrict import equated, fixed, restricted
 from keptbythree.rows import is_row
 from keptbythree.sets import ClosedSet
-from samples import BIT, FOUR, HUGE, LATCH, NIM, ONE, THREE, all_rows, any_values, odd_kind
+from samples import BIT, FOUR, LATCH, NIM, ONE, THREE, all_rows, any_values, odd_kind, wrong_places
 
 EVEN_ROWS = [(0, 0, 0), (0, 1, 1), (1, 0, 1), (1, 1, 0)]
 EVEN = ClosedSet.of_rows([BIT, BIT, BIT], EVEN_ROWS)
 NONE = ClosedSet.empty(BIT, BIT, BIT)
 SUMS = [(0, 0, 0), (0, 1, 1), (1, 0, 2), (1, 1, 3)]
-
-
-def wrong_places(width):
-    """Any values but the places."""
-    right = [str(place) for place in range(width)]
-    return [thing for thing in [*any_values(), width, -1, -width, HUGE] if repr(thing) not in right]
 
 
 class Interface(unittest.TestCase):

@@ -1,12 +1,16 @@
 """Promises [3] and [7] to [10]: small sets against a list of all their rows."""
 
 import unittest
-from itertools import permutations
+from itertools import combinations, permutations
 
+from keptbythree.compare import difference, includes
+from keptbythree.derivations import derivation, derives
+from keptbythree.joins import common, hidden, joined
 from keptbythree.orders import reordered
 from keptbythree.restrict import equated, fixed, restricted
 from keptbythree.sets import ClosedSet
-from samples import all_rows, plain_certificate, plain_classes, plain_walk, small_sets, taken
+from samples import (all_rows, certificate_rows, numbers, plain_certificate, plain_classes, plain_derives, plain_joined,
+                     plain_walk, small_sets, taken)
 
 SETS = [(kinds, rows, ClosedSet.of_rows(kinds, rows)) for kinds, rows in small_sets()]
 
@@ -108,6 +112,64 @@ class Derived(unittest.TestCase):
                 twice = reordered(once, range_back(kinds))
                 self.check(twice, kinds, sorted(row[::-1] for row in kept))
                 self.assertEqual(twice, fixed(closed, len(kinds) - 1, 0))
+
+
+class PutTogether(unittest.TestCase):
+    def check(self, closed, kinds, rows):
+        self.assertEqual(closed.kinds, tuple(kinds))
+        self.assertEqual(closed.certificate(), plain_certificate(rows, len(kinds)))
+        self.assertEqual(closed.first(len(rows) + 1), rows)
+
+    def pairs_of_sets(self):
+        """Pairs of small sets, of one width or of several ones; every set stands in one at least."""
+        for at, one in enumerate(SETS):
+            for step in (0, 1, 7, 31, 90):
+                other = SETS[(at + step) % len(SETS)]
+                if len(one[1]) * len(other[1]) <= 300:
+                    yield one, other
+
+    def test_hidden(self):
+        for kinds, rows, closed in SETS:
+            for many in range(len(kinds) + 1):
+                for places in combinations(range(len(kinds)), many):
+                    kept = [place for place in range(len(kinds)) if place not in places]
+                    expected = taken(rows, kept)
+                    self.check(hidden(closed, *places), [kinds[place] for place in kept], expected)
+                    self.check(hidden(closed, *places[::-1], *places), [kinds[place] for place in kept], expected)
+
+    def test_joined(self):
+        source = numbers(3)
+        for (kinds, rows, one), (other_kinds, other_rows, other) in self.pairs_of_sets():
+            fitting = [(place, second) for place, kind in enumerate(kinds) for second, other_kind in
+                       enumerate(other_kinds) if kind == other_kind]
+            for many in range(4):
+                if fitting or not many:
+                    pairs = [fitting[next(source) % len(fitting)] for _ in range(many)]
+                    left = [second for _, second in pairs]
+                    kept = [kind for second, kind in enumerate(other_kinds) if second not in left]
+                    if len(kinds) + len(kept) <= 7:
+                        self.check(joined(one, other, *pairs), [*kinds, *kept], plain_joined(rows, other_rows, pairs))
+
+    def test_common_and_differences(self):
+        for kinds, rows, one in SETS:
+            for _, other_rows, other in [found for found in SETS if found[0] == kinds][:20]:
+                both = [row for row in rows if row in other_rows]
+                self.check(common(one, other), kinds, both)
+                ordered = certificate_rows(one) if rows and kinds else rows
+                expected = [row for row in ordered if row not in other_rows]
+                self.assertEqual(difference(one, other), expected[0] if expected else None)
+                self.assertIs(includes(other, one), both == rows)
+                self.assertIs(difference(one, other) is None, both == rows)
+                self.assertIs(one == other, both == rows == other_rows)
+
+    def test_derivations(self):
+        for kinds, rows, closed in SETS:
+            for row in rows:
+                found, steps = derivation(closed, row)
+                self.assertTrue(plain_derives(kinds, found, steps, row))
+                self.assertIs(derives(kinds, found, steps, row), True)
+                self.assertLessEqual(len(steps), len(kinds))
+                self.assertTrue(set(found) <= set(certificate_rows(closed) if kinds else rows))
 
 
 def range_back(kinds):

@@ -5,7 +5,7 @@ from keptbythree.checks import check_same_kinds
 
 def difference(one, other):
     """The first row of the certificate of one that is not in the other set, or None if each row of one is in it."""
-    check_same_kinds(one, other)
+    check_same_kinds(one.kinds, other.kinds)
     for row in _rows_to_try(one):
         if not other.has(row):
             return row

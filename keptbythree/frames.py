@@ -7,7 +7,7 @@ the old value. Most rows t and u of an entry differ at few places, so that a mov
 Columns are those of the kinds: columns[y][z] has the values m(x, y, z) by x.
 """
 
-from keptbythree.entries import entry_of, groups
+from keptbythree.entries import base, entry_of, groups
 
 
 class Frame:
@@ -51,6 +51,12 @@ class Frame:
             for at, column in moves[row[place]]:
                 row[at] = column[row[at]]
             place += 1
+
+    def least_row(self):
+        """The least row of the set."""
+        row = list(base(self.entries))
+        self.lower(row, 0)
+        return tuple(row)
 
 
 def frame_of(tables, columns, entries):

@@ -34,7 +34,7 @@ def joined(one, other, *pairs):
 
 def common(one, other):
     """The rows that are in both sets."""
-    check_same_kinds(one, other)
+    check_same_kinds(one.kinds, other.kinds)
     return _linked_set(one, other, [(place, place) for place in range(one.width)], one.kinds)
 
 

@@ -1,6 +1,6 @@
 """The rows of the certificate, for a frame with any rows."""
 
-from keptbythree.entries import base, entry_of, groups
+from keptbythree.entries import entry_of, groups
 from keptbythree.unions import unions_of
 
 
@@ -16,9 +16,7 @@ class Settling:
         self._source = frame
         self._unions = unions_of(frame.columns, frame.entries)
         self._known = {}
-        row = list(base(frame.entries))
-        frame.lower(row, 0)
-        self._least = tuple(row)
+        self._least = frame.least_row()
 
     def least_entries(self):
         """The entries with the rows of the certificate."""

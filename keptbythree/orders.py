@@ -20,9 +20,13 @@ def taken(closed, places):
     kinds = values_at(closed.kinds, places)
     if closed.is_empty:
         return ClosedSet(kinds, None)
-    order = [*places, *[place for place in range(closed.width) if place not in places]]
-    entries = Arranging(closed._tables, closed._entries).entries_for(order)
-    return ClosedSet(kinds, settled(cut(closed._tables, closed._columns, entries, places)))
+    return ClosedSet(kinds, settled(arranged(closed._tables, closed._columns, closed._entries, places)))
+
+
+def arranged(tables, columns, entries, places):
+    """The frame of the values at these different places, in this order, of the set with these entries."""
+    order = [*places, *[place for place in range(len(tables)) if place not in places]]
+    return cut(tables, columns, Arranging(tables, entries).entries_for(order), places)
 
 
 def _is_order(thing, width):

@@ -1,4 +1,4 @@
-"""What counts as an integer and as a value of a kind, and copies of any value."""
+"""What counts as an integer, as a value of a kind and as a name, and copies of any value."""
 
 
 def is_integer(thing):
@@ -9,6 +9,11 @@ def is_integer(thing):
 def is_value(thing, size):
     """Whether the thing, any value, is a value of a kind of this size."""
     return is_integer(thing) and 0 <= thing < size
+
+
+def is_name(thing):
+    """Whether the thing, any value, is a name: a string of one to three letters from a to z."""
+    return isinstance(thing, str) and 1 <= len(thing) <= 3 and all(["a" <= letter <= "z" for letter in thing])
 
 
 def copied(thing):

@@ -45,7 +45,7 @@ class Frame:
         for at, column in self.up[place][value]:
             row[at] = column[row[at]]
 
-    def lower(self, row, place):
+    def descend(self, row, place):
         """Makes the row, a list, the least row of the set that agrees with it before the place."""
         for moves in self.down[place:]:
             for at, column in moves[row[place]]:
@@ -55,7 +55,7 @@ class Frame:
     def least_row(self):
         """The least row of the set."""
         row = list(base(self.entries))
-        self.lower(row, 0)
+        self.descend(row, 0)
         return tuple(row)
 
 

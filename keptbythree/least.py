@@ -37,7 +37,7 @@ class Settling:
         if key not in self._known:
             near = list(row)
             self._source.change(near, place, value)
-            self._source.lower(near, place + 1)
+            self._source.descend(near, place + 1)
             self._known[key] = tuple(near)
         return self._known[key]
 
@@ -52,10 +52,11 @@ class Settling:
         """The row changed at the last place from which on it can get the value, to the least value with which it can.
 
         The row is the least one that agrees with it before any place behind the last change. So all its values there
-        are the least of their groups, and nothing has to be changed as long as the value can be had later.
+        are the least of their groups, and nothing has to be changed as long as the value can be had later. At the place
+        itself it cannot be had, since it is the least of its class, and not that of the row.
         """
-        wanted = 1 << value
-        for at, together in self._unions[place]:
+        wanted = self._unions[place][0][1][value]
+        for at, together in self._unions[place][1:]:
             if together[value] >> row[place] & 1:
                 for other in self._source.entries[at][row[at]]:
                     near = self._changed(row, at, other)

@@ -19,10 +19,11 @@ class Batch:
         self._begin = None
 
     def __enter__(self):
+        store = self._store
         # In another batch of the same store this one does nothing.
-        if not self._store._is_busy:
-            self._store._is_busy = True
-            self._begin = self._store._state
+        if not store._is_busy:
+            store._is_busy = True
+            self._begin = store._state
 
     def __exit__(self, kind, value, trace):
         store = self._store

@@ -135,6 +135,15 @@ class Allows(unittest.TestCase):
                 self.assertIs(constraint.allows(*[thing] * len(constraint.names)), False)
 
 
+class Base(unittest.TestCase):
+    def test_what_all_have_in_common(self):
+        table = Table("x", "y", "x", rows=[])
+        self.assertEqual(vars(Constraint)["names"].fget(table), ("x", "y", "x"))
+        self.assertEqual([Constraint.allows(table, 3, 1, 3), Constraint.allows(table, 3, 1, 2),
+                          Constraint.allows(table, 3, 1), Constraint.allows(table, True, 1, True)],
+                         [True, False, False, False])
+
+
 class Written(unittest.TestCase):
     def test_tables(self):
         self.assertEqual(str(Table("x", "y", "z", rows=[(2, 0, 1), (0, 9, 9), (2, 0, 1)])), "x y z among 099 201")

@@ -27,9 +27,11 @@ class Interface(unittest.TestCase):
         self.assertEqual(hidden(EVEN, 2), ClosedSet.full(BIT, BIT))
         self.assertEqual(joined(EVEN, EVEN, (2, 0)).classes(4), [[0], [1]])
 
-    def test_by_position(self):
-        # Starred parameters have no names; common has two that can be passed by name.
+    def test_by_name(self):
         self.assertEqual(common(other=fixed(EVEN, 0, 1), one=EVEN), fixed(EVEN, 0, 1))
+        # Starred parameters have no names.
+        self.assertEqual(hidden(closed=EVEN), EVEN)
+        self.assertEqual(joined(other=ClosedSet.full(THREE), one=EVEN).kinds, (BIT, BIT, BIT, THREE))
 
 
 class Hidden(unittest.TestCase):

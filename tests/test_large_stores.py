@@ -110,6 +110,24 @@ class Sets(Large):
             self.assertEqual(self.light(store.closed_set).certificate(), expected.certificate())
 
 
+class Effort(Large):
+    """Counts of calls in place of a clock."""
+
+    def test_what_is_known_is_kept(self):
+        for _, _, _, store, _ in self.stores(6):
+            store.solution()
+            for question in (store.solution, lambda: store.possible("f"), lambda: next(store.solutions())):
+                self.assertLess(calls_of(question)[1], 200)
+            store.closed_set()
+            self.assertLess(calls_of(lambda: store.has(*[0] * 12))[1], 200)
+            self.assertLess(calls_of(store.closed_set)[1], 20)
+            # A further constraint is imposed on what is known, and undo leads back to it.
+            store.put(Fixed("c", 0))
+            self.assertLess(calls_of(store.solution)[1], 2000)
+            store.undo()
+            self.assertLess(calls_of(store.solution)[1], 200)
+
+
 class Histories(Large):
     def test_unlike_histories(self):
         for seed, kinds, rules, store, closed in self.stores(18):

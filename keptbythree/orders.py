@@ -41,6 +41,18 @@ def _is_spread(group, place):
     return len({group[value][place] for value in group}) > 1
 
 
+def _groups_by(entry, group_of):
+    """The groups that a function makes of rows of the entry, until they have all of its values."""
+    known = {}
+    made = []
+    for value in entry:
+        if value not in known:
+            group = group_of(entry[value][value])
+            known.update(group)
+            made.append(group)
+    return made
+
+
 class Arranging:
     """The entries of a set while its places are brought into another order, by exchanges of neighbours.
 
@@ -65,14 +77,18 @@ class Arranging:
         return self._entries
 
     def _exchange(self, place, other):
-        """Exchanges two neighbours. Only the entries of these two may change."""
+        """Exchanges two neighbours. Only the entries of these two may change.
+
+        They stay if the rows of each group of the place agree at the other one already, as they mostly do.
+        """
         made = self._groups[place]
         if any([_is_spread(group, other) for group in made]):
             if self._is_free(place, other):
                 self._keep(place, [self._levelled(group, other) for group in made])
             else:
-                before = self._groups_before(place, other)
-                self._keep(place, self._groups_behind(place, other))
+                before = _groups_by(self._entries[other], lambda row: self._group_before(row, place, other))
+                behind = _groups_by(self._entries[place], lambda row: self._group_behind(row, place, other))
+                self._keep(place, behind)
                 self._keep(other, before)
 
     def _keep(self, place, made):
@@ -101,17 +117,6 @@ class Arranging:
     def _moved(self, row, place, value):
         return moved(self._tables, self._entries, row, place, value)
 
-    def _groups_before(self, place, other):
-        """The groups of the other place if it stands before the place."""
-        known = {}
-        made = []
-        for value in self._entries[other]:
-            if value not in known:
-                group = self._group_before(self._entries[other][value][value], place, other)
-                known.update(group)
-                made.append(group)
-        return made
-
     def _group_before(self, row, place, other):
         """The values at the other place in the rows that agree with the row before both places."""
         group = {}
@@ -121,17 +126,6 @@ class Arranging:
                 for second in self._entries[other][near[other]]:
                     group[second] = self._moved(near, other, second)
         return ascending(group)
-
-    def _groups_behind(self, place, other):
-        """The groups of the place if it stands behind the other one."""
-        known = {}
-        made = []
-        for value in self._entries[place]:
-            if value not in known:
-                group = self._group_behind(self._entries[place][value][value], place, other)
-                known.update(group)
-                made.append(group)
-        return made
 
     def _group_behind(self, row, place, other):
         """The values at the place in the rows that agree with the row before both places and at the other one."""
